@@ -1,0 +1,1 @@
+"""Troupe: plays cast by told rules."""
