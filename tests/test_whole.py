@@ -1,4 +1,5 @@
 import itertools
+import random
 import unittest
 
 from troupe.books import read_book
@@ -6,6 +7,9 @@ from troupe.castings import faults_of
 from troupe.clashes import clashes_of
 from troupe.evenings import evening_of, hurries_of
 from troupe.groups import are_right, crowd_of, fewest_of
+from troupe.least import least_of
+from troupe.papers import holds, paper_of
+from troupe.prices import price_of, prices_of, prices_of_change
 from troupe.trees import shows, tree_of
 
 PLAYS = [
@@ -27,6 +31,19 @@ PLAYS = [
 
 def all_castings(book):
     return [list(players) for players in itertools.product([None] + list(range(len(book[1]))), repeat=len(book[0]))]
+
+
+# Rows of a small drawn play, with dresses to change, scenes to meet in, and voices that may lack.
+def drawn_rows(spread):
+    parts = "abcd"[:spread.randrange(5)]
+    players = "xyz"[:spread.randrange(4)]
+    rows = [f"part {name} {spread.choice('sst')} {spread.randrange(3)} {spread.randrange(3)}" for name in parts]
+    rows.extend([f"player {name} {spread.choice(['-', 's', 'st', 'ts'])} {spread.randrange(9)}" for name in players])
+    for name in "hijkl"[:spread.randrange(6)]:
+        names = spread.sample(parts, spread.randrange(min(len(parts), 2) + 1))
+        rows.append(" ".join(["scene", name, str(spread.randrange(3)), str(spread.randrange(4))] + names))
+    likes = [f"like {one} {other} {spread.randrange(9)}" for one in players for other in parts]
+    return rows + spread.sample(likes, spread.randrange(len(likes) + 1))
 
 
 # Whether a walk through the play finds somebody late, or in a scene twice.
@@ -89,6 +106,35 @@ class TestWhole(unittest.TestCase):
                 self.assertIs(shows(many, clashes, k + 1, tree), False)
                 self.assertTrue(len(crowd_of(many, clashes)) <= k)
         self.assertEqual(fewest, [0, 1, 2, 3])
+
+    def test_the_casting_of_least_price_plays_and_a_paper_shows_that_none_costs_less(self):
+        spread = random.Random(3)
+        found = []
+        for rows in PLAYS + [drawn_rows(spread) for at in range(400)]:
+            book = read_book(rows)
+            castings = [casting for casting in all_castings(book) if faults_of(book, casting) == []]
+            kept = spread.choice(all_castings(book))
+            with self.subTest(rows=rows, kept=kept):
+                self.least_and_its_paper(book, prices_of(book), castings)
+                self.least_and_its_paper(book, prices_of_change(book, kept), castings)
+            found.append(castings != [])
+        self.assertTrue(found.count(True) > 100 and found.count(False) > 100)
+
+    def least_and_its_paper(self, book, prices, castings):
+        least = least_of(book, prices)
+        paper = paper_of(book, prices)
+        if castings == []:
+            self.assertIsNone(least)
+            self.assertIs(holds(book, prices, paper, None), True)
+            return
+        price, casting = least
+        self.assertEqual(faults_of(book, casting), [])
+        self.assertEqual(walk_fails(book, casting), False)
+        self.assertEqual(price_of(prices, casting), price)
+        self.assertEqual(min([price_of(prices, other) for other in castings]), price)
+        self.assertIs(holds(book, prices, paper, price), True)
+        self.assertIs(holds(book, prices, paper, price + 1), False)
+        self.assertIs(holds(book, prices, paper, None), False)
 
 
 if __name__ == "__main__":
