@@ -119,6 +119,15 @@ class Look:
         for name in sorted(set(names)):
             if names.count(name) > 1:
                 self.fault(path, 0, "L15", f"{name} bound twice")
+        self.look_at_locals(path, tree)
+
+    def look_at_locals(self, path, tree):
+        taken = [alias.name for node in tree.body if isinstance(node, ast.ImportFrom) for alias in node.names]
+        taken.extend([node.name for node in tree.body if isinstance(node, ast.ClassDef)])
+        for node in ast.walk(tree):
+            name = node.arg if isinstance(node, ast.arg) else getattr(node, "id", None)
+            if name in taken and not isinstance(getattr(node, "ctx", None), ast.Load):
+                self.fault(path, node.lineno, "L15", f"{name} bound anew")
 
     def faults_of_node(self, node, parent):
         kind = node.__class__.__name__

@@ -2,6 +2,7 @@
 
 from troupe.books import PARTS, PLAYERS
 from troupe.clashes import clashes_of
+from troupe.errors import NoCasting
 
 
 def fault_of_part(book, i, player):
@@ -21,3 +22,8 @@ def faults_of(book, casting):
     faults = [fault for fault in faults if fault is not None]
     faults.extend([("clash", i, j) for i, j in clashes_of(book) if have_one_player(casting, i, j)])
     return faults
+
+
+def ask_that_it_plays(book, casting):
+    if faults_of(book, casting) != []:
+        raise NoCasting("the casting does not play")
